@@ -1,0 +1,1 @@
+"""Income of a fund's classes."""

@@ -1,0 +1,37 @@
+"""The calls that bring income: income, accrue, stop."""
+
+from fundincome.limits import MOST_ACCRUALS, MOST_DAYS, MOST_INCOME, MOST_POT
+from fundincome.limits import NO_CLASS, NO_ROOM, NOT_THERE, OUT_OF_RANGE
+from fundincome.limits import within
+
+
+def bring_income(house, c, coins):
+    if c not in house.classes:
+        return [NO_CLASS]
+    if not within(coins, 1, MOST_INCOME):
+        return [OUT_OF_RANGE]
+    fund = house.classes[c]
+    if fund.pot + coins > MOST_POT:
+        return [NO_ROOM]
+    house.take_income(c, coins)
+    return [fund.issued()]
+
+
+def start_accrual(house, c, coins, days):
+    if c not in house.classes:
+        return [NO_CLASS]
+    if not within(coins, 1, MOST_INCOME) or not within(days, 1, MOST_DAYS):
+        return [OUT_OF_RANGE]
+    place = len(house.accruals)
+    if place >= MOST_ACCRUALS:
+        return [NO_ROOM]
+    house.add_accrual(c, coins, days)
+    return [place]
+
+
+def stop_accrual(house, place):
+    if not within(place, 0, len(house.accruals) - 1):
+        return [NOT_THERE]
+    accrual = house.accruals[place]
+    accrual.stopped = 1
+    return [accrual.told]
