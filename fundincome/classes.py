@@ -1,8 +1,11 @@
 """Reads one list of calls and does them in order."""
 
+from fundincome.giving_calls import give_income, pay_holder, quote_portion
 from fundincome.house import House
-from fundincome.income_calls import bring_income, start_accrual, stop_accrual
+from fundincome.income_calls import bring_income, start_accrual, stop_accrual, tick_days
 from fundincome.setting_calls import clear_all, set_kind, set_mandate, set_rate, start_class
+from fundincome.showing_calls import show_accrual, show_class, show_counts, show_holding
+from fundincome.showing_calls import show_lot, show_owed, show_sums
 from fundincome.unit_calls import create_units, redeem_units, transfer_units
 
 
@@ -20,6 +23,17 @@ def known_calls():
         8: (2, bring_income),
         9: (3, start_accrual),
         10: (1, stop_accrual),
+        11: (1, tick_days),
+        12: (3, give_income),
+        13: (1, pay_holder),
+        14: (1, show_class),
+        15: (1, show_sums),
+        16: (2, show_holding),
+        17: (3, show_lot),
+        18: (1, show_owed),
+        19: (1, show_accrual),
+        20: (3, quote_portion),
+        21: (0, show_counts),
     }
 
 

@@ -3,7 +3,8 @@
 Nothing is refused here: the calls ask first whether a change may be made.
 """
 
-from fundincome.limits import HOLDERS, PARTS
+from fundincome.coins import PARTS, coins_down, coins_up
+from fundincome.limits import HOLDERS
 from fundincome.lots import Lot, first_lots, later_lots, units_in
 
 
@@ -40,7 +41,10 @@ class FundClass:
 
     def cost_of_risen(self, units):
         # Rounded up, so that who comes in later takes nothing from those before.
-        return (units * self.open_parts() + PARTS - 1) // PARTS
+        return coins_up(units * self.open_parts())
+
+    def worth_of_risen(self, units):
+        return coins_down(units * self.open_parts())
 
     def receive(self, coins):
         self.pot += coins
@@ -56,7 +60,7 @@ class FundClass:
         return cost
 
     def redeem(self, h, units):
-        coins = units * self.open_parts() // PARTS
+        coins = self.worth_of_risen(units)
         self.lots[h] = later_lots(self.lots[h], units)
         if self.issued() == 0:
             # Nobody is left whom the rounded rest could belong to.
@@ -71,3 +75,18 @@ class FundClass:
         moved = first_lots(self.lots[origin], units)
         self.lots[origin] = later_lots(self.lots[origin], units)
         self.lots[to].extend(moved)
+
+    def give_out(self, r, gifts):
+        self.given += r
+        for h in range(HOLDERS):
+            self.hand_out(h, gifts[h])
+        # Only now: until here risen is what it was at the beginning, which is the new lots' entry.
+        self.bring_up()
+
+    def hand_out(self, h, gift):
+        self.pot += gift.for_risen - gift.portion.coins
+        self.bought += gift.for_risen
+        self.paid += gift.portion.coins
+        self.placed += gift.cost()
+        if gift.new_units > 0:
+            self.lots[h].append(Lot(gift.new_units, self.risen))

@@ -1,5 +1,6 @@
 """All that is kept while one list of calls is done."""
 
+from fundincome.accrual import Accrual
 from fundincome.fund_class import FundClass
 from fundincome.limits import HOLDERS, KINDS
 
@@ -13,16 +14,17 @@ class Holder:
         self.capital = 0
         self.income = 0
 
+    def take(self, gift):
+        self.owed += gift.left_over()
+        self.tax += gift.portion.tax
+        self.capital += gift.portion.capital
+        self.income += gift.portion.income_in()
 
-class Accrual:
-    def __init__(self, c, coins, days):
-        self.class_number = c
-        self.coins = coins
-        self.days = days
-        self.passed = 0
-        self.told = 0
-        # 1 or 0, as the calls tell it.
-        self.stopped = 0
+    def pay(self):
+        coins = self.owed
+        self.paid_out += coins
+        self.owed = 0
+        return coins
 
 
 class House:
@@ -39,6 +41,9 @@ class House:
         # By their places.
         self.accruals = []
 
+    def rate_of(self, h):
+        return self.rates[self.holders[h].kind]
+
     def add_class(self, c):
         self.classes[c] = FundClass()
 
@@ -51,3 +56,19 @@ class House:
             self.unclaimed += coins
         else:
             fund.receive(coins)
+
+    def coming_in(self, c, n):
+        return sum([accrual.more_after(n) for accrual in self.accruals if accrual.class_number == c])
+
+    def pass_days(self, n):
+        coming = [(c, self.coming_in(c, n)) for c in sorted(self.classes)]
+        self.day += n
+        for accrual in self.accruals:
+            accrual.let_pass(n)
+        for c, coins in coming:
+            self.take_income(c, coins)
+
+    def spread_gifts(self, c, r, gifts):
+        self.classes[c].give_out(r, gifts)
+        for h in range(HOLDERS):
+            self.holders[h].take(gifts[h])

@@ -1,7 +1,7 @@
 """The calls that make, end and move units: create, redeem, transfer."""
 
 from fundincome.limits import MOST_LOTS, MOST_POT, MOST_UNITS
-from fundincome.limits import NO_CLASS, NO_ROOM, OUT_OF_RANGE, TOO_FEW_UNITS
+from fundincome.limits import NO_CLASS, NO_ROOM, OUT_OF_RANGE, TOO_LITTLE
 from fundincome.limits import is_holder, within
 from fundincome.lots import first_lots
 
@@ -41,7 +41,7 @@ def redeem_units(house, c, h, units):
         return [OUT_OF_RANGE]
     fund = house.classes[c]
     if fund.units_of(h) < units:
-        return [TOO_FEW_UNITS]
+        return [TOO_LITTLE]
     return [fund.redeem(h, units)]
 
 
@@ -52,7 +52,7 @@ def transfer_units(house, c, origin, to, units):
         return [OUT_OF_RANGE]
     fund = house.classes[c]
     if fund.units_of(origin) < units:
-        return [TOO_FEW_UNITS]
+        return [TOO_LITTLE]
     if not has_room_for_moved(fund, origin, to, units):
         return [NO_ROOM]
     fund.transfer(origin, to, units)

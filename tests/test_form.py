@@ -185,5 +185,73 @@ class Code(unittest.TestCase):
                 self.assertIn(node.func.attr, own | set(OWN_METHODS), (path, node.lineno))
 
 
+class Narrower(unittest.TestCase):
+    """Where a rule has many cases the program does without what the rule is about."""
+
+    def setUp(self):
+        self.all_nodes = nodes(ast.AST)
+
+    def calls(self):
+        return [(path, node) for path, node in self.all_nodes if isinstance(node, ast.Call)]
+
+    def test_what_the_program_does_without(self):
+        kinds = (
+            ast.Try, ast.Raise, ast.Lambda, ast.Set, ast.Pow, ast.JoinedStr, ast.keyword, ast.Starred, ast.AnnAssign)
+        self.assertEqual([(path, ast.dump(node)) for path, node in nodes(*kinds)], [])
+        self.assertEqual([path for path, node in nodes(ast.Name) if node.id in ("set", "frozenset")], [])
+        for path, node in nodes(ast.FunctionDef):
+            self.assertEqual([part for part in ast.walk(node) if isinstance(part, ast.FunctionDef)], [node], path)
+            self.assertTrue(node.name == "__init__" or not node.name.startswith("_"), (path, node.name))
+
+    def test_no_list_or_dict_at_the_top(self):
+        for path, tree in trees():
+            for node in tree.body:
+                if isinstance(node, ast.Assign):
+                    self.assertNotIsInstance(node.value, (ast.List, ast.Dict), (path, node.lineno))
+
+    def test_texts(self):
+        for path, node in nodes(ast.Constant):
+            if isinstance(node.value, str):
+                self.assertNotIn("%", node.value, (path, node.lineno))
+        for path in FILES:
+            self.assertNotIn("\\", path.read_text(), path)
+
+    def test_names_that_are_only_called(self):
+        classes = {node.name for _, node in nodes(ast.ClassDef)}
+        methods = {part.name for _, node in nodes(ast.ClassDef) for part in node.body} | set(OWN_METHODS)
+        called = {id(node.func) for path, node in self.calls()}
+        for path, node in self.all_nodes:
+            if isinstance(node, ast.Name) and node.id in classes | set(OWN_NAMES):
+                self.assertIn(id(node), called, (path, node.lineno, node.id))
+            if isinstance(node, ast.Attribute) and node.attr in methods:
+                self.assertIn(id(node), called, (path, node.lineno, node.attr))
+
+    def test_walked_on_the_spot(self):
+        walked = {id(node.iter) for _, node in self.all_nodes if isinstance(node, (ast.For, ast.comprehension))}
+        for path, node in self.calls():
+            name = getattr(node.func, "id", None) or getattr(node.func, "attr", None)
+            if name in ("zip", "enumerate", "reversed", "range", "items", "keys", "values"):
+                self.assertIn(id(node), walked, (path, node.lineno))
+
+    def test_what_a_loop_walks_is_not_changed_in_it(self):
+        changes = ("append", "clear", "extend", "insert", "pop", "remove", "reverse", "setdefault", "update")
+        for path, loop in nodes(ast.For):
+            text = ast.unparse(loop.iter)
+            for node in ast.walk(loop):
+                if isinstance(node, ast.Attribute) and node.attr in changes:
+                    self.assertNotEqual(ast.unparse(node.value), text, (path, node.lineno))
+                if isinstance(node, (ast.Subscript, ast.Name, ast.Attribute)) and isinstance(node.ctx, ast.Store):
+                    self.assertNotIn(ast.unparse(node).split("[")[0], text.split(), (path, node.lineno))
+
+    def test_the_first_method_gives_nothing_back(self):
+        for path, node in nodes(ast.FunctionDef):
+            if node.name == "__init__":
+                self.assertEqual([part for part in ast.walk(node) if isinstance(part, ast.Return)], [], path)
+
+    def test_no_method_stands_twice(self):
+        names = [part.name for _, node in nodes(ast.ClassDef) for part in node.body if part.name != "__init__"]
+        self.assertEqual(len(names), len(set(names)), names)
+
+
 if __name__ == "__main__":
     unittest.main()

@@ -4,7 +4,8 @@ import unittest
 
 from tests.helper import (
     BILLION, FAR, MILLION, NO_CLASS, NO_ROOM, NOT_THERE, OUT_OF_RANGE,
-    accrue, class_of, create, house_after, income, last, lots, redeem, stop, sums, told, whole,
+    NO_SUCH_CLASSES, accrualat, accrue, behind, class_of, classat, counts, create, holding, income, last, lot, redeem,
+    stop, sums, told, whole,
 )
 
 # A pot of a thousand million coins, on a thousand units.
@@ -23,15 +24,15 @@ class Income(unittest.TestCase):
         self.assertEqual(
             whole(class_of(0), create(0, 0, 4), income(0, 4), create(0, 1, 1), income(0, 10), create(0, 1, 1)),
             told([0, 0, 4, 1, 5, 3]))
-        house = house_after(class_of(0), create(0, 0, 3), income(0, 10))
-        self.assertEqual(house.classes[0].risen, 3333333333)
-        self.assertEqual(sums(house, 0), [10, 0, 0, 0, 0, 10])
-        self.assertEqual(lots(house, 0, 0), [(3, 0)])
+        self.assertEqual(
+            whole(class_of(0), create(0, 0, 3), income(0, 10), classat(0), sums(0), holding(0, 0), lot(0, 0, 0)),
+            told([0, 0, 3, [3, 10, 3333333333], [10, 0, 0, 0, 0, 10], [3, 1, 9, 0], [3, 3333333333, 0]]))
 
     def test_what_rounding_leaves_is_not_lost(self):
         # Three times a coin on 3 units makes a whole coin a unit, not three times 333333333 parts.
-        house = house_after(class_of(0), create(0, 0, 3), income(0, 1), income(0, 1), income(0, 1))
-        self.assertEqual(house.classes[0].risen, BILLION)
+        self.assertEqual(
+            whole(class_of(0), create(0, 0, 3), income(0, 1), income(0, 1), income(0, 1), classat(0)),
+            told([0, 0, 3, 3, 3, [3, 3, BILLION]]))
 
     def test_is_for_one_class(self):
         self.assertEqual(
@@ -44,23 +45,21 @@ class Income(unittest.TestCase):
         self.assertEqual(
             whole(*calls, create(0, 1, 1), income(0, 5), redeem(0, 0, 4)),
             told([0, 0, 0, 0, 0, 5, 4]))
-        house = house_after(*calls)
-        self.assertEqual(house.unclaimed, MILLION + 10)
-        self.assertEqual(sums(house, 0), [0] * 6)
-        self.assertEqual(house.classes[0].risen, 0)
+        self.assertEqual(
+            behind(calls, counts(), sums(0), classat(0), lot(0, 0, 0)),
+            [[0, 0, MILLION + 10], [0] * 6, [4, 0, 0], [4, 0, 0]])
 
     def test_with_units_nothing_is_unclaimed(self):
-        self.assertEqual(house_after(class_of(0), create(0, 0, 4), income(0, 10)).unclaimed, 0)
+        self.assertEqual(behind([class_of(0), create(0, 0, 4), income(0, 10)], counts()), [[0, 0, 0]])
 
     def test_behind_the_last_units_it_is_unclaimed(self):
         calls = [class_of(0), create(0, 0, 3), income(0, 7), redeem(0, 0, 3), income(0, 9)]
         self.assertEqual(whole(*calls, create(0, 1, 1), redeem(0, 1, 1)), told([0, 0, 3, 7, 0, 0, 0]))
-        house = house_after(*calls)
-        self.assertEqual((house.unclaimed, sums(house, 0)), (9, [7, 0, 7, 0, 0, 0]))
+        self.assertEqual(behind(calls, counts(), sums(0)), [[0, 0, 9], [7, 0, 7, 0, 0, 0]])
 
     def test_unclaimed_is_of_the_house(self):
         calls = [class_of(0), class_of(3), income(0, 4), income(3, 5)]
-        self.assertEqual(house_after(*calls).unclaimed, 9)
+        self.assertEqual(behind(calls, counts()), [[0, 0, 9]])
 
     def test_edges(self):
         start = [class_of(0), create(0, 0, 1)]
@@ -68,7 +67,7 @@ class Income(unittest.TestCase):
                          told([0, 0, 1, 1, MILLION + 1]))
 
     def test_no_class(self):
-        for c in (0, 2, 3, 4, -1, -FAR, FAR):
+        for c in NO_SUCH_CLASSES:
             self.assertEqual(last(class_of(1), income(c, 1)), NO_CLASS, c)
 
     def test_out_of_range(self):
@@ -102,9 +101,8 @@ class Accrue(unittest.TestCase):
             told([0, 0, 0, 1, 2]))
 
     def test_keeps_what_it_is_of(self):
-        one = house_after(class_of(2), accrue(2, 10, 3)).accruals[0]
         self.assertEqual(
-            (one.class_number, one.coins, one.days, one.passed, one.told, one.stopped), (2, 10, 3, 0, 0, 0))
+            whole(class_of(2), accrue(2, 10, 3), accrualat(0), counts()), told([0, 0, [2, 10, 3, 0, 0, 0], [0, 1, 0]]))
 
     def test_is_no_income_yet(self):
         self.assertEqual(
@@ -112,7 +110,7 @@ class Accrue(unittest.TestCase):
             told([0, 0, 0, 0, 0, 0]))
 
     def test_no_class(self):
-        for c in (0, 2, 3, 4, -1, -FAR, FAR):
+        for c in NO_SUCH_CLASSES:
             self.assertEqual(last(class_of(1), accrue(c, 1, 1)), NO_CLASS, c)
 
     def test_out_of_range(self):
@@ -148,10 +146,11 @@ class Stop(unittest.TestCase):
             told([0, 0, 1, 0, 0, 0]))
 
     def test_the_one_is_stopped(self):
-        house = house_after(class_of(0), accrue(0, 10, 3), accrue(0, 20, 1), accrue(0, 30, 1), stop(1))
-        self.assertEqual([one.stopped for one in house.accruals], [0, 1, 0])
-        house = house_after(class_of(0), accrue(0, 10, 3), stop(0), stop(0))
-        self.assertEqual([one.stopped for one in house.accruals], [1])
+        start = [class_of(0), accrue(0, 10, 3), accrue(0, 20, 1), accrue(0, 30, 1), stop(1)]
+        shows = [accrualat(place) for place in range(3)]
+        due = [[0, 10, 3, 0, 0, 0], [0, 20, 1, 0, 0, 1], [0, 30, 1, 0, 0, 0]]
+        self.assertEqual(behind(start, *shows), due)
+        self.assertEqual(behind([*start, stop(1)], *shows), due)
 
     def test_none_such(self):
         for place in (0, 1, -1, -FAR, FAR):

@@ -3,10 +3,20 @@
 import unittest
 
 from tests.helper import (
-    FAR, MILLION, NO_CLASS, OUT_OF_RANGE, THERE_ALREADY,
-    accrue, class_of, clear, create, holder, house_after, income, last, mandate, rate,
-    redeem, state, stop, told, transfer, whole,
+    BILLION, FAR, MILLION, NO_CLASS, NO_HOLDERS, NO_SUCH_CLASSES, OUT_OF_RANGE, THERE_ALREADY,
+    accrualat, accrue, behind, class_of, classat, clear, counts, create, give, holder, holding, income, last, lot,
+    mandate, owed, pay, quote, rate, redeem, seen, stop, sums, tick, told, transfer, whole,
 )
+
+
+# Something of all that there may be: days, accruals, unclaimed and owed coins, rates, kinds, tax, capital.
+BUSY = [
+    rate(1, 500000), holder(3, 1), class_of(0), class_of(1), income(1, 7), create(0, 0, 10), create(0, 3, 10),
+    mandate(0, 0, 1), income(0, 20), create(0, 4, 5), accrue(0, 10, 5), tick(2), stop(0), give(0, 1000000000, 4),
+    pay(4), redeem(0, 4, 1), transfer(0, 3, 5, 2)]
+# Open is 1160000000 parts at the giving out: 10 coins for 0, who put 8 and 1 in again for 2 units;
+# 10 less 5 of tax for 3, and 5 for 4.
+BUSY_ANSWERED = [0, 0, 0, 0, 0, 0, 0, 0, 20, 5, 0, 2, 4, [25, 2], 5, 0, 8]
 
 
 class Clear(unittest.TestCase):
@@ -27,12 +37,26 @@ class Clear(unittest.TestCase):
             0, 0, -6, -2, -2, -2, -2, -2, -2,
             0, 0, -5, 0, 0, 0, 0]))
 
-    def test_leaves_a_house_like_a_new_one(self):
-        before = [
-            rate(0, 5), holder(0, 1), class_of(0), income(0, 3), create(0, 0, 10),
-            income(0, 5), mandate(0, 0, 1), accrue(0, 10, 3), stop(0)]
-        self.assertEqual(state(*before, clear()), state())
-        self.assertNotEqual(state(*before), state())
+    def test_nothing_is_shown_behind_it(self):
+        self.assertEqual(
+            whole(*BUSY, clear(), counts(), classat(0), sums(1), holding(0, 0), lot(0, 0, 0), owed(0), owed(3),
+                  accrualat(0), quote(0, 0, 0), give(0, 1, 1), pay(0), tick(1), rate(1, 0), holder(3, 0)),
+            told(BUSY_ANSWERED + [
+                0, [0, 0, 0], -2, -2, -2, -2, [0] * 6, [0] * 6, -6, -2, -2, 0, 1, 0, 0]))
+
+    def test_a_class_made_anew_has_nothing_of_the_old_one(self):
+        self.assertEqual(
+            behind([*BUSY, clear()], class_of(0), classat(0), sums(0), holding(0, 0), lot(0, 0, 0), tick(10),
+                   classat(0), create(0, 0, 10), income(0, 10), give(0, BILLION, 1), classat(0), owed(0)),
+            [[0], [0] * 3, [0] * 6, [0] * 4, [-6], [10], [0] * 3, [0], [10], [10, 0], [10, 0, 0],
+             [10, 0, 0, 0, 10, 0]])
+
+    def test_leaves_all_as_at_first(self):
+        self.assertEqual(seen(*BUSY, clear()), seen())
+        self.assertNotEqual(seen(*BUSY), seen())
+
+    def test_twice_in_one_list(self):
+        self.assertEqual(whole(*BUSY, clear(), *BUSY, clear(), *BUSY), told((BUSY_ANSWERED + [0]) * 2 + BUSY_ANSWERED))
 
 
 class Rate(unittest.TestCase):
@@ -66,7 +90,7 @@ class HolderKind(unittest.TestCase):
         self.assertEqual(whole(*calls), told([0] * 20 + [h % 4 for h in range(20)]))
 
     def test_out_of_range(self):
-        for h in (-1, 20, -FAR, FAR):
+        for h in NO_HOLDERS:
             self.assertEqual(whole(holder(h, 0)), [1, OUT_OF_RANGE], h)
         for kind in (-1, 4, -FAR, FAR):
             self.assertEqual(whole(holder(19, 2), holder(19, kind), holder(19, 0)), told([0, -1, 2]), kind)
@@ -111,11 +135,11 @@ class Mandate(unittest.TestCase):
             told([0, 0, 0, 0, 0, 0, 1, 0, 0, 1]))
 
     def test_no_class(self):
-        for c in (0, 2, 3, 4, -1, -FAR, FAR):
+        for c in NO_SUCH_CLASSES:
             self.assertEqual(last(class_of(1), mandate(c, 0, 1)), NO_CLASS, c)
 
     def test_out_of_range(self):
-        for h in (-1, 20, -FAR, FAR):
+        for h in NO_HOLDERS:
             self.assertEqual(last(class_of(1), mandate(1, h, 1)), OUT_OF_RANGE, h)
         for on in (-1, 2, -FAR, FAR):
             self.assertEqual(
@@ -129,20 +153,17 @@ class Mandate(unittest.TestCase):
 
 class AtFirst(unittest.TestCase):
     def test_of_the_house(self):
-        house = house_after()
-        self.assertEqual((house.day, house.unclaimed, house.rates), (0, 0, [0] * 4))
-        self.assertEqual((house.classes, house.accruals, len(house.holders)), ({}, [], 20))
+        self.assertEqual(whole(counts(), accrualat(0)), told([[0, 0, 0], -6]))
+        self.assertEqual(whole(*[rate(kind, 1) for kind in range(4)]), told([0] * 4))
+        self.assertEqual(whole(*[classat(c) for c in range(4)]), told([-2] * 4))
 
     def test_of_a_holder(self):
-        for one in house_after().holders:
-            self.assertEqual(
-                (one.kind, one.owed, one.paid_out, one.tax, one.capital, one.income), (0,) * 6)
+        self.assertEqual(whole(*[owed(h) for h in range(20)]), told([[0] * 6] * 20))
 
     def test_of_a_class(self):
-        fund = house_after(class_of(2)).classes[2]
-        self.assertEqual((fund.pot, fund.risen, fund.given), (0, 0, 0))
-        self.assertEqual((fund.received, fund.bought, fund.redeemed, fund.paid, fund.placed), (0,) * 5)
-        self.assertEqual((fund.lots, fund.again), ([[]] * 20, [0] * 20))
+        self.assertEqual(
+            whole(class_of(2), classat(2), sums(2), *[holding(2, h) for h in range(20)], lot(2, 0, 0)),
+            told([0, [0] * 3, [0] * 6, *[[0] * 4] * 20, -6]))
 
 
 if __name__ == "__main__":

@@ -3,23 +3,13 @@
 import unittest
 
 from tests.helper import (
-    BILLION, FAR, MILLION, NO_CLASS, NO_ROOM, OUT_OF_RANGE, TOO_FEW,
-    class_of, create, house_after, income, last, lots, redeem, sums, told, transfer, whole,
+    BILLION, FAR, MILLION, NO_CLASS, NO_ROOM, OUT_OF_RANGE, TOO_LITTLE,
+    NO_HOLDERS, NO_SUCH_CLASSES, behind, class_of, classat, create, holding, income, last, lot, lots, redeem,
+    shown, sums, told, transfer, whole,
 )
 
 # One unit on which a million coins have risen: each unit more costs a million.
 DEAR = [class_of(0), create(0, 0, 1), income(0, MILLION)]
-
-
-class Example(unittest.TestCase):
-    def test_of_the_document(self):
-        calls = [class_of(0), create(0, 0, 60), create(0, 1, 40), income(0, 10), create(0, 2, 50)]
-        self.assertEqual(whole(*calls), [1, 0, 1, 0, 1, 0, 1, 100, 1, 5])
-        house = house_after(*calls)
-        self.assertEqual(sums(house, 0), [10, 5, 0, 0, 0, 15])
-        self.assertEqual(house.classes[0].open_parts(), 100000000)
-        self.assertEqual(lots(house, 0, 2), [(50, 100000000)])
-        self.assertEqual(lots(house, 0, 0), [(60, 0)])
 
 
 class Create(unittest.TestCase):
@@ -34,8 +24,8 @@ class Create(unittest.TestCase):
             self.assertEqual(last(class_of(0), create(0, 0, 3), income(0, 10), create(0, 1, units)), paid)
         # One part open a unit is a coin for a single unit.
         thin = [class_of(0), create(0, 0, 900000000), income(0, 1)]
-        self.assertEqual(house_after(*thin).classes[0].open_parts(), 1)
-        self.assertEqual(whole(*thin, create(0, 1, 1)), told([0, 0, 900000000, 1]))
+        self.assertEqual(
+            whole(*thin, classat(0), create(0, 1, 1)), told([0, 0, 900000000, [900000000, 1, 1], 1]))
 
     def test_what_comes_out_even_is_not_rounded(self):
         self.assertEqual(last(class_of(0), create(0, 0, 4), income(0, 8), create(0, 1, 3)), 6)
@@ -43,10 +33,9 @@ class Create(unittest.TestCase):
     def test_what_rounding_leaves_belongs_to_all_units(self):
         # 3 units, 10 coins; a 4th unit for 4 coins: 14 coins on 4 units, 3.5 a unit.
         calls = [class_of(0), create(0, 0, 3), income(0, 10), create(0, 1, 1)]
-        house = house_after(*calls)
-        self.assertEqual(house.classes[0].open_parts(), 3500000000)
-        self.assertEqual(sums(house, 0), [10, 4, 0, 0, 0, 14])
-        self.assertEqual(lots(house, 0, 1), [(1, 3333333333)])
+        self.assertEqual(
+            behind(calls, classat(0), sums(0), holding(0, 1), lot(0, 1, 0)),
+            [[4, 14, 3500000000], [10, 4, 0, 0, 0, 14], [1, 1, 3, 0], [1, 166666667, 3333333333]])
         self.assertEqual(last(*calls, create(0, 2, 2)), 7)
 
     def test_each_class_has_its_own_units(self):
@@ -56,11 +45,11 @@ class Create(unittest.TestCase):
             told([0, 0, 0, 0, 2, 0, 14, 12, 9]))
 
     def test_no_class(self):
-        for c in (0, 2, 3, 4, -1, -FAR, FAR):
+        for c in NO_SUCH_CLASSES:
             self.assertEqual(last(class_of(1), create(c, 0, 1)), NO_CLASS, c)
 
     def test_out_of_range(self):
-        for h in (-1, 20, -FAR, FAR):
+        for h in NO_HOLDERS:
             self.assertEqual(last(class_of(1), create(1, h, 1)), OUT_OF_RANGE, h)
         for units in (0, -1, BILLION + 1, -FAR, FAR):
             self.assertEqual(last(class_of(1), create(1, 0, units)), OUT_OF_RANGE, units)
@@ -84,7 +73,7 @@ class Create(unittest.TestCase):
         self.assertEqual(whole(*DEAR, create(0, 1, 1000)), told([0, 0, 1, NO_ROOM]))
         full = [*DEAR, create(0, 1, 999)]
         self.assertEqual(last(*full, create(0, 1, 1)), NO_ROOM)
-        self.assertEqual(sums(house_after(*full, create(0, 1, 1)), 0)[5], BILLION)
+        self.assertEqual(shown(*full, create(0, 1, 1), classat(0)), [1000, BILLION, MILLION * BILLION])
 
     def test_a_pot_fuller_by_one_coin(self):
         # 999001 coins on one unit, and a thousand units more: 999001 x 1001 is 1000000001.
@@ -126,20 +115,16 @@ class Redeem(unittest.TestCase):
     def test_what_rounding_leaves_belongs_to_all_units(self):
         # 3 units, 10 coins; one goes with 3 coins: 7 coins on 2 units, 3.5 a unit.
         calls = [class_of(0), create(0, 0, 3), income(0, 10), redeem(0, 0, 1)]
-        house = house_after(*calls)
-        self.assertEqual(house.classes[0].open_parts(), 3500000000)
-        self.assertEqual(sums(house, 0), [10, 0, 3, 0, 0, 7])
+        self.assertEqual(behind(calls, classat(0), sums(0)), [[2, 7, 3500000000], [10, 0, 3, 0, 0, 7]])
         self.assertEqual(whole(*calls, redeem(0, 0, 1), redeem(0, 0, 1)), told([0, 0, 3, 3, 3, 4]))
 
     def test_the_last_units_are_paid_all_that_is_in_the_pot(self):
         # 7 coins on 3 units are 2333333333 parts a unit, 6.999999999 in all.
         start = [class_of(0), create(0, 0, 3), income(0, 7)]
         self.assertEqual(whole(*start, redeem(0, 0, 3)), told([0, 0, 3, 7]))
-        house = house_after(*start, redeem(0, 0, 3))
-        self.assertEqual(sums(house, 0), [7, 0, 7, 0, 0, 0])
-        self.assertEqual(house.classes[0].open_parts(), 0)
-        self.assertEqual((house.classes[0].risen, house.classes[0].given), (2333333333, 2333333333))
-        self.assertEqual(lots(house, 0, 0), [])
+        self.assertEqual(
+            behind([*start, redeem(0, 0, 3)], classat(0), sums(0), holding(0, 0)),
+            [[0, 0, 0], [7, 0, 7, 0, 0, 0], [0, 0, 0, 0]])
 
     def test_the_last_units_of_a_holder_are_not_the_last_in_issue(self):
         start = [class_of(0), create(0, 0, 3), create(0, 1, 3), income(0, 7)]
@@ -151,13 +136,13 @@ class Redeem(unittest.TestCase):
         self.assertEqual(
             whole(*start, create(0, 1, 5), redeem(0, 1, 1), income(0, 8), create(0, 2, 1), redeem(0, 1, 1)),
             told([0, 0, 3, 7, 0, 0, 4, 2, 2]))
-        house = house_after(*start, create(0, 1, 5), income(0, 5))
-        self.assertEqual(lots(house, 0, 1), [(5, 2333333333)])
-        self.assertEqual(house.classes[0].open_parts(), BILLION)
+        self.assertEqual(
+            behind([*start, create(0, 1, 5), income(0, 5)], classat(0), lot(0, 1, 0)),
+            [[5, 5, BILLION], [5, BILLION, 0]])
 
     def test_units_are_taken_first_in_first_out(self):
         start = [class_of(0), create(0, 0, 2), income(0, 2), create(0, 0, 3), income(0, 5), create(0, 0, 4)]
-        self.assertEqual(lots(house_after(*start), 0, 0), [(2, 0), (3, BILLION), (4, 2 * BILLION)])
+        self.assertEqual(lots(start, 0, 0), [(2, 0), (3, BILLION), (4, 2 * BILLION)])
         for units, left in (
                 (1, [(1, 0), (3, BILLION), (4, 2 * BILLION)]),
                 (2, [(3, BILLION), (4, 2 * BILLION)]),
@@ -165,16 +150,16 @@ class Redeem(unittest.TestCase):
                 (5, [(4, 2 * BILLION)]),
                 (8, [(1, 2 * BILLION)]),
                 (9, [])):
-            self.assertEqual(lots(house_after(*start, redeem(0, 0, units)), 0, 0), left)
+            self.assertEqual(lots([*start, redeem(0, 0, units)], 0, 0), left)
             self.assertEqual(last(*start, redeem(0, 0, units)), 2 * units)
 
     def test_no_class(self):
-        for c in (0, 2, 3, 4, -1, -FAR, FAR):
+        for c in NO_SUCH_CLASSES:
             self.assertEqual(last(class_of(1), create(1, 0, 5), redeem(c, 0, 1)), NO_CLASS, c)
 
     def test_out_of_range(self):
         start = [class_of(1), create(1, 0, 5), create(1, 19, 5)]
-        for h in (-1, 20, -FAR, FAR):
+        for h in NO_HOLDERS:
             self.assertEqual(last(*start, redeem(1, h, 1)), OUT_OF_RANGE, h)
         for units in (0, -1, BILLION + 1, -FAR, FAR):
             self.assertEqual(last(*start, redeem(1, 0, units)), OUT_OF_RANGE, units)
@@ -215,38 +200,34 @@ class Transfer(unittest.TestCase):
         start = [
             class_of(0), create(0, 0, 2), income(0, 2), create(0, 1, 3), create(0, 0, 5), income(0, 10),
             create(0, 0, 4)]
-        house = house_after(*start, transfer(0, 0, 1, 6))
-        self.assertEqual(lots(house, 0, 1), [(3, BILLION), (2, 0), (4, BILLION)])
-        self.assertEqual(lots(house, 0, 0), [(1, BILLION), (4, 2 * BILLION)])
-        house = house_after(*start, transfer(0, 0, 1, 7))
-        self.assertEqual(lots(house, 0, 1), [(3, BILLION), (2, 0), (5, BILLION)])
-        self.assertEqual(lots(house, 0, 0), [(4, 2 * BILLION)])
+        after = [*start, transfer(0, 0, 1, 6)]
+        self.assertEqual(lots(after, 0, 1), [(3, BILLION), (2, 0), (4, BILLION)])
+        self.assertEqual(lots(after, 0, 0), [(1, BILLION), (4, 2 * BILLION)])
+        after = [*start, transfer(0, 0, 1, 7)]
+        self.assertEqual(lots(after, 0, 1), [(3, BILLION), (2, 0), (5, BILLION)])
+        self.assertEqual(lots(after, 0, 0), [(4, 2 * BILLION)])
 
     def test_a_lot_in_part_keeps_its_entry_and_its_place(self):
         start = [class_of(0), create(0, 0, 5), income(0, 5), create(0, 0, 5)]
-        house = house_after(*start, transfer(0, 0, 1, 2))
-        self.assertEqual(lots(house, 0, 0), [(3, 0), (5, BILLION)])
-        self.assertEqual(lots(house, 0, 1), [(2, 0)])
-        house = house_after(*start, transfer(0, 0, 1, 2), transfer(0, 1, 0, 1))
-        self.assertEqual(lots(house, 0, 0), [(3, 0), (5, BILLION), (1, 0)])
-        self.assertEqual(lots(house, 0, 1), [(1, 0)])
+        after = [*start, transfer(0, 0, 1, 2)]
+        self.assertEqual(lots(after, 0, 0), [(3, 0), (5, BILLION)])
+        self.assertEqual(lots(after, 0, 1), [(2, 0)])
+        after = [*start, transfer(0, 0, 1, 2), transfer(0, 1, 0, 1)]
+        self.assertEqual(lots(after, 0, 0), [(3, 0), (5, BILLION), (1, 0)])
+        self.assertEqual(lots(after, 0, 1), [(1, 0)])
 
     def test_coins_and_other_holders_stay_as_they_are(self):
         start = [class_of(0), create(0, 0, 3), create(0, 2, 4), income(0, 10)]
-        before = house_after(*start)
-        after = house_after(*start, transfer(0, 0, 1, 2))
-        self.assertEqual(sums(after, 0), sums(before, 0))
-        self.assertEqual(after.classes[0].risen, before.classes[0].risen)
-        self.assertEqual(after.classes[0].given, before.classes[0].given)
-        self.assertEqual(lots(after, 0, 2), [(4, 0)])
+        shows = [classat(0), sums(0), holding(0, 2), lot(0, 2, 0)]
+        self.assertEqual(behind(start, *shows), behind([*start, transfer(0, 0, 1, 2)], *shows))
 
     def test_no_class(self):
-        for c in (0, 2, 3, 4, -1, -FAR, FAR):
+        for c in NO_SUCH_CLASSES:
             self.assertEqual(last(class_of(1), create(1, 0, 5), transfer(c, 0, 1, 1)), NO_CLASS, c)
 
     def test_out_of_range(self):
         start = [class_of(1), create(1, 0, 5)]
-        for h in (-1, 20, -FAR, FAR):
+        for h in NO_HOLDERS:
             self.assertEqual(last(*start, transfer(1, h, 0, 1)), OUT_OF_RANGE, h)
             self.assertEqual(last(*start, transfer(1, 0, h, 1)), OUT_OF_RANGE, h)
         for units in (0, -1, BILLION + 1, -FAR, FAR):
@@ -291,7 +272,7 @@ class Transfer(unittest.TestCase):
         self.assertEqual(last(*fifty, transfer(0, 4, 4, 101)), OUT_OF_RANGE)
         self.assertEqual(last(*fifty, transfer(0, 0, 20, 4)), OUT_OF_RANGE)
         self.assertEqual(last(*fifty, transfer(0, 0, 4, BILLION + 1)), OUT_OF_RANGE)
-        self.assertEqual(last(*fifty, transfer(0, 0, 4, 4)), TOO_FEW)
+        self.assertEqual(last(*fifty, transfer(0, 0, 4, 4)), TOO_LITTLE)
         self.assertEqual(last(*fifty, transfer(0, 0, 4, 3)), NO_ROOM)
 
 
